@@ -1,0 +1,1 @@
+"""Potround: glass melted in pots round one fire."""
