@@ -14,8 +14,12 @@ INTERFACE = {
     "errors": ["HallError", "BadTally", "Never", "Full", "BadRow", "NoSuch"],
     "palettes": ["is_palette", "is_kinds", "colour_row", "wash_for", "ready_at"],
     "tallies": ["tally_of", "tally_hours", "both_tally", "either_tally", "turned_tally"],
+    "ordering": ["washing_of", "least_washing"],
+    "turns": ["is_turns", "fault_of", "state_at", "stretches", "hours_in", "spare_of"],
+    "rounds": ["is_rows", "steps_of"],
+    "timetables": ["Timetable", "keeps", "is_ring"],
 }
-METHODS = {}
+METHODS = {"Timetable": ["__init__", "pair", "__len__", "__eq__", "__repr__", "__str__"]}
 
 BUILTINS = set("""len range enumerate zip min max sum abs sorted reversed int str bool bytes list tuple dict set
     isinstance ord repr any all divmod super ValueError KeyError IndexError LookupError ZeroDivisionError""".split())
