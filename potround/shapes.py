@@ -22,3 +22,15 @@ def is_row(thing, size):
 def is_rising(keys):
     """Whether each of a list's keys is greater than the one ahead."""
     return all([one < other for one, other in zip(keys, keys[1:])])
+
+
+def is_told(thing, told):
+    """Whether it is what was told, in which neither True nor False stands."""
+    return thing == told and not holds_truth(thing)
+
+
+def holds_truth(thing):
+    """Whether True or False stands in it; to Python they are like 1 and 0."""
+    if isinstance(thing, (list, tuple)):
+        return any([holds_truth(part) for part in thing])
+    return isinstance(thing, bool)

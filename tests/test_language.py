@@ -18,6 +18,9 @@ INTERFACE = {
     "turns": ["is_turns", "fault_of", "state_at", "stretches", "hours_in", "spare_of"],
     "rounds": ["is_rows", "steps_of"],
     "timetables": ["Timetable", "keeps", "is_ring"],
+    "endless": ["timed", "shortest"],
+    "rounding": ["round_state", "turns_of", "glass_in"],
+    "breaking": ["broken", "shows_broken", "last_warm"],
 }
 METHODS = {"Timetable": ["__init__", "pair", "__len__", "__eq__", "__repr__", "__str__"]}
 
