@@ -32,9 +32,10 @@ def least_left(steps, ring):
 def earliest(steps, length):
     """A pair: the Timetable of a length whose times are as early as can be and None, or None and a ring."""
     # Each row has four steps and two moments.
-    moments = [0] * (len(steps) // 2)
-    last_steps = [None] * len(moments)
-    for turn in range(len(moments)):
+    many = len(steps) // 2
+    moments = [0] * many
+    last_steps = [None] * many
+    for turn in range(many):
         moment = put_off(steps, length, moments, last_steps)
         if moment is None:
             return (Timetable(list(zip(moments[::2], moments[1::2])), length), None)

@@ -20,7 +20,7 @@ def round_state(palette, rows, timetable, pot, hour):
 def turns_of(palette, rows, timetable, pot, often):
     """The turns of a pot in the first so many rounds."""
     numbers = numbers_of(rows, pot)
-    return [turn_in(rows, timetable, number, time) for time in range(often) for number in numbers]
+    return [turn_in(rows, timetable, number, again) for again in range(often) for number in numbers]
 
 
 def glass_in(palette, rows, timetable, colour, hour):

@@ -24,6 +24,11 @@ def is_rising(keys):
     return all([one < other for one, other in zip(keys, keys[1:])])
 
 
+def are_rising(thing, low, high):
+    """Whether it is a rising list of numbers from low to high."""
+    return isinstance(thing, list) and all([is_number(part, low, high) for part in thing]) and is_rising(thing)
+
+
 def is_told(thing, told):
     """Whether it is what was told, in which neither True nor False stands."""
     return thing == told and not holds_truth(thing)

@@ -21,6 +21,10 @@ INTERFACE = {
     "endless": ["timed", "shortest"],
     "rounding": ["round_state", "turns_of", "glass_in"],
     "breaking": ["broken", "shows_broken", "last_warm"],
+    "gathering": ["served"],
+    "gathercheck": ["shows_rows", "shows_lack"],
+    "working": ["offers_of", "wants_of", "worked_by"],
+    "sharing": ["shared", "shows_share", "lack_by", "wanted_of"],
 }
 METHODS = {"Timetable": ["__init__", "pair", "__len__", "__eq__", "__repr__", "__str__"]}
 
