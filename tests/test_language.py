@@ -25,8 +25,14 @@ INTERFACE = {
     "gathercheck": ["shows_rows", "shows_lack"],
     "working": ["offers_of", "wants_of", "worked_by"],
     "sharing": ["shared", "shows_share", "lack_by", "wanted_of"],
+    "cooling": ["in_at", "most_in", "slotted", "most_cooled", "bound_by", "shows_cooled"],
+    "tunnels": ["Tunnel"],
+    "deeds": ["is_deed"],
 }
-METHODS = {"Timetable": ["__init__", "pair", "__len__", "__eq__", "__repr__", "__str__"]}
+METHODS = {
+    "Timetable": ["__init__", "pair", "__len__", "__eq__", "__repr__", "__str__"],
+    "Tunnel": ["__init__", "enter", "tick", "inside", "now", "slot_of", "__len__", "__eq__"],
+}
 
 BUILTINS = set("""len range enumerate zip min max sum abs sorted reversed int str bool bytes list tuple dict set
     isinstance ord repr any all divmod super ValueError KeyError IndexError LookupError ZeroDivisionError""".split())
@@ -107,6 +113,15 @@ class Language(unittest.TestCase):
                 self.assertNotIn(name, dir(builtins), stem)
             read = {node.id for node in ast.walk(tree) if isinstance(node, ast.Name)}
             self.assertEqual(read - bound - BUILTINS, set(), stem)
+
+    def test_methods_and_attributes(self):
+        methods = {row.name for stem, node in nodes(ast.ClassDef) for row in node.body if isinstance(row, ast.FunctionDef)}
+        stored = {node.attr for stem, node in nodes(ast.Attribute) if isinstance(node.ctx, ast.Store)}
+        called = {id(node.func) for stem, node in nodes(ast.Call)}
+        self.assertEqual(methods & stored, set())
+        for stem, node in nodes(ast.Attribute):
+            if isinstance(node.ctx, ast.Load) and id(node) not in called:
+                self.assertIn(node.attr, stored, stem)
 
     def test_expressions(self):
         for stem, node in nodes((ast.GeneratorExp, ast.Div, ast.Await, ast.Yield, ast.NamedExpr, ast.Starred)):
