@@ -1,15 +1,15 @@
 """The deeds of the hall's book."""
 
-from potround.shapes import is_name, is_number
+from potround.shapes import are_parts
 
-# Behind each word stand these parts: None is a NAME, a pair the bounds of a number.
+# What stands behind the word of each deed.
 PARTS = {
-    "fill": (None, None),
-    "wash": (None, (0, 999)),
-    "empty": (None,),
-    "gather": (None, None, None, (1, 999)),
-    "break": (None,),
-    "new": (None, (0, 999)),
+    "fill": ("name", "name"),
+    "wash": ("name", "hours"),
+    "empty": ("name",),
+    "gather": ("name", "name", "name", "gathers"),
+    "break": ("name",),
+    "new": ("name", "hours"),
 }
 
 
@@ -20,13 +20,6 @@ def is_deed(thing):
             and are_parts(thing[1:], PARTS[thing[0]]))
 
 
-def are_parts(things, parts):
-    """Whether things are what stands behind a word."""
-    return len(things) == len(parts) and all([is_part(thing, part) for thing, part in zip(things, parts)])
-
-
-def is_part(thing, part):
-    """Whether a thing is a NAME, or a number within these bounds."""
-    if part is None:
-        return is_name(thing)
-    return is_number(thing, part[0], part[1])
+def pot_of(deed):
+    """The pot that a deed names."""
+    return deed[2] if deed[0] == "gather" else deed[1]

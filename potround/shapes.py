@@ -1,6 +1,8 @@
 """What things of any make are asked, ahead of all that is asked of what they mean."""
 
 LETTERS = "abcdefghijklmnopqrstuvwxyz"
+# The bounds of the numbers that stand in deeds, entries and asks.
+BOUNDS = {"hours": (0, 999), "gathers": (1, 999), "hour": (0, 9999), "number": (0, 1000000000)}
 
 
 def is_number(thing, low, high):
@@ -17,6 +19,18 @@ def is_name(thing):
 def is_row(thing, size):
     """Whether it is a tuple of so many parts."""
     return isinstance(thing, tuple) and len(thing) == size
+
+
+def are_parts(things, sorts):
+    """Whether each of several things is of its sort, a word of BOUNDS, "name", or "shade", a NAME or the sign *."""
+    return len(things) == len(sorts) and all([is_part(thing, sort) for thing, sort in zip(things, sorts)])
+
+
+def is_part(thing, sort):
+    """Whether a thing is of a sort."""
+    if sort in BOUNDS:
+        return is_number(thing, BOUNDS[sort][0], BOUNDS[sort][1])
+    return is_name(thing) or (sort == "shade" and thing == "*")
 
 
 def is_rising(keys):

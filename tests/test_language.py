@@ -28,10 +28,17 @@ INTERFACE = {
     "cooling": ["in_at", "most_in", "slotted", "most_cooled", "bound_by", "shows_cooled"],
     "tunnels": ["Tunnel"],
     "deeds": ["is_deed"],
+    "book": ["Book"],
+    "accounts": ["Account"],
+    "texts": ["book_text", "book_from"],
+    "desk": ["run"],
 }
 METHODS = {
     "Timetable": ["__init__", "pair", "__len__", "__eq__", "__repr__", "__str__"],
     "Tunnel": ["__init__", "enter", "tick", "inside", "now", "slot_of", "__len__", "__eq__"],
+    "Book": ["__init__", "enter", "put_right", "strike", "undo", "entries", "told_times", "as_told", "twin", "__len__",
+             "__eq__"],
+    "Account": ["__init__", "rows", "voids", "state", "glass", "pieces", "tunnel", "sums", "lacking"],
 }
 
 BUILTINS = set("""len range enumerate zip min max sum abs sorted reversed int str bool bytes list tuple dict set
@@ -39,7 +46,7 @@ BUILTINS = set("""len range enumerate zip min max sum abs sorted reversed int st
 BARRED = set("""type typing enum Enum Flag Generic Protocol ABC namedtuple NamedTuple TypedDict register mro elements
     open input law""".split())
 STATEMENTS = (ast.Assign, ast.AugAssign, ast.If, ast.While, ast.For, ast.Return, ast.Break, ast.Continue, ast.Pass,
-              ast.Raise, ast.Expr, ast.FunctionDef, ast.ClassDef, ast.ImportFrom)
+              ast.Raise, ast.Expr, ast.FunctionDef, ast.ClassDef, ast.ImportFrom, ast.Try)
 
 
 def nodes(kind):
@@ -86,6 +93,10 @@ class Language(unittest.TestCase):
     def test_statements(self):
         for stem, node in nodes(ast.stmt):
             self.assertIsInstance(node, STATEMENTS, (stem, node.lineno))
+
+    def test_own_errors_alone_are_caught(self):
+        for stem, node in nodes(ast.ExceptHandler):
+            self.assertIn(node.type.id, INTERFACE["errors"], stem)
 
     def test_imports(self):
         for stem, node in nodes((ast.Import, ast.ImportFrom)):

@@ -3,7 +3,7 @@ import unittest
 
 from potround.errors import BadRow, BadTally, Full, HallError, Never, NoSuch
 from potround.tunnels import Tunnel
-from tests.things import odd_things
+from tests.things import check_like, odd_things
 
 
 def filled(slots, *cools):
@@ -239,17 +239,12 @@ class Asked(unittest.TestCase):
 
 
 class Like(unittest.TestCase):
-    def check(self, one, other, answer):
-        self.assertIs(one == other, answer)
-        self.assertIs(other == one, answer)
-        self.assertIs(one != other, not answer)
-
     def test_like_ones(self):
-        self.check(Tunnel(3), Tunnel(3), True)
-        self.check(Tunnel(0, 4), Tunnel(0, 4), True)
-        self.check(filled(3, 4, 5), filled(3, 4, 5), True)
+        check_like(self, Tunnel(3), Tunnel(3), True)
+        check_like(self, Tunnel(0, 4), Tunnel(0, 4), True)
+        check_like(self, filled(3, 4, 5), filled(3, 4, 5), True)
         tunnel = filled(3, 4)
-        self.check(tunnel, tunnel, True)
+        check_like(self, tunnel, tunnel, True)
 
     def test_like_by_other_ways(self):
         one = Tunnel(2, 3)
@@ -259,7 +254,7 @@ class Like(unittest.TestCase):
         other.enter("a", 6)
         other.enter("b", 1)
         other.tick()
-        self.check(one, other, True)
+        check_like(self, one, other, True)
         # The slots are filled the other way round in time.
         turned = Tunnel(2, 2)
         turned.enter("x", 1)
@@ -267,33 +262,33 @@ class Like(unittest.TestCase):
         turned.tick(1)
         turned.enter("a", 5)
         one.enter("b", 8)
-        self.check(one, turned, True)
+        check_like(self, one, turned, True)
 
     def test_unlike(self):
-        self.check(filled(3, 4), filled(4, 4), False)
-        self.check(Tunnel(3), Tunnel(3, 1), False)
-        self.check(filled(3, 4), filled(3, 5), False)
-        self.check(filled(3, 4), filled(3, 4, 4), False)
-        self.check(filled(3, 4), Tunnel(3), False)
+        check_like(self, filled(3, 4), filled(4, 4), False)
+        check_like(self, Tunnel(3), Tunnel(3, 1), False)
+        check_like(self, filled(3, 4), filled(3, 5), False)
+        check_like(self, filled(3, 4), filled(3, 4, 4), False)
+        check_like(self, filled(3, 4), Tunnel(3), False)
         other = Tunnel(3)
         other.enter("b", 4)
-        self.check(filled(3, 4), other, False)
+        check_like(self, filled(3, 4), other, False)
         later = filled(3, 1, 4)
         later.tick()
         sooner = Tunnel(3, 1)
         sooner.enter("b", 3)
-        self.check(later, sooner, False)
+        check_like(self, later, sooner, False)
 
     def test_same_left_at_another_hour(self):
         one, other = filled(3, 4), filled(3, 5)
         other.tick()
         self.assertEqual(one.inside(), other.inside())
-        self.check(one, other, False)
+        check_like(self, one, other, False)
 
     def test_other_things(self):
         tunnel = Tunnel(1)
         for other in odd_things()[:60] + [[], {}, object(), Tunnel, (1, 0, []), "Tunnel(1)"]:
-            self.check(tunnel, other, False)
+            check_like(self, tunnel, other, False)
 
 
 class AgainstASlowReading(unittest.TestCase):

@@ -3,6 +3,8 @@
 import copy
 import random
 
+from potround.errors import BadRow, HallError
+
 PLAIN = [0, 1, -1, 7, 24, 10 ** 30, -10 ** 30, True, False, None, "", "a", "amber", "Amber", "a b", "~", "abcdefghi"]
 
 
@@ -63,3 +65,18 @@ def check_bent(test, ask, right):
     answers = [ask(bent(rng, right)) for _ in range(3000)]
     test.assertTrue(all(answer is True or answer is False for answer in answers))
     test.assertIn(False, answers)
+
+
+def check_like(test, one, other, answer):
+    """Both are told to be equal, or unequal, from either side."""
+    test.assertIs(one == other, answer)
+    test.assertIs(other == one, answer)
+    test.assertIs(one != other, not answer)
+
+
+def check_bad_row(test, ask, rows, number):
+    """A text of these rows is refused with BadRow at that number."""
+    with test.assertRaises(BadRow) as caught:
+        ask("\n".join(rows))
+    test.assertEqual(caught.exception.row, number, rows)
+    test.assertIsInstance(caught.exception, HallError)
